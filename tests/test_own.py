@@ -1,0 +1,133 @@
+"""Point 2, of every function: what is handed in stays, what is told is the asker's own."""
+
+import copy
+import unittest
+
+from farcords import pairings, weighings
+
+ONE = [(2, (1, -4)), (3, (0, 5)), (1, (1, -4))]
+OTHER = [(1, (7, 7)), (5, (0, 0))]
+SMALL = [(2, (3, 3))]
+
+# What is no list is told of here too: what was handed in stays as it was, and truths are truths.
+CALLS = [
+    (weighings.is_weighing, [ONE]),
+    (weighings.is_weighing, [[]]),
+    (weighings.is_weighing, [[[1, [2]], (1, (2,))]]),
+    (weighings.is_weighing, [[(1, [2])]]),
+    (weighings.is_weighing, [None]),
+    (weighings.shaped, [[(0, (1,)), (2, (1,)), (3, (1,)), (1, (2,))]]),
+    (weighings.shaped, [ONE]),
+    (weighings.shaped, [[]]),
+    (weighings.length, [ONE]),
+    (weighings.weights_at, [ONE, 4]),
+    (weighings.part, [ONE, 1, 5]),
+    (weighings.part, [ONE, 0, 6]),
+    (weighings.part, [ONE, 3, 3]),
+    (weighings.backward, [ONE]),
+    (weighings.backward, [SMALL]),
+    (weighings.backward, [[]]),
+    (weighings.added, [ONE, OTHER]),
+    (weighings.added, [ONE, ONE]),
+    (weighings.added, [[], []]),
+    (weighings.put_to, [ONE, 3, SMALL]),
+    (weighings.put_to, [ONE, 0, []]),
+    (weighings.put_to, [[], 0, []]),
+    (weighings.wound, [ONE, 1]),
+    (weighings.wound, [ONE, 4]),
+    (weighings.wound, [ONE, 6]),
+    (weighings.wound, [ONE, 60]),
+    (weighings.sorts, [ONE]),
+    (weighings.sorts, [[]]),
+    (pairings.is_pairing, [(0, 3, 2, True)]),
+    (pairings.is_pairing, [[0, 3, 2, True]]),
+    (pairings.is_pairing, [([0], 3, 2, True)]),
+    (pairings.paired, [3, 0, 2, True]),
+    (pairings.forth, [(0, 3, 2, True), 1]),
+    (pairings.back, [(0, 3, 2, True), 4]),
+    (pairings.partners, [(0, 3, 5, False), 3]),
+    (pairings.partners, [(0, 3, 5, False), 30]),
+    (pairings.short, [(0, 3, 5, True), 1, 2]),
+    (pairings.behind, [(0, 3, 5, True), (2, 3, 5, False)]),
+    (pairings.is_turn, [(0, 3, 5, False)]),
+    (pairings.is_turn, [(0, 3, 5, True)]),
+]
+
+TRUTHS = (weighings.is_weighing, pairings.is_pairing, pairings.is_turn)
+
+
+def spoil(thing):
+    """Change all lists in what is the asker's own."""
+    if isinstance(thing, (list, tuple)):
+        for within in thing:
+            spoil(within)
+    if isinstance(thing, list):
+        thing.reverse()
+        thing.append("spoilt")
+        del thing[:1]
+
+
+def lists_of(thing):
+    """All lists within a thing, itself too."""
+    found = [thing] if isinstance(thing, list) else []
+    if isinstance(thing, (list, tuple)):
+        for within in thing:
+            found += lists_of(within)
+    return found
+
+
+class OwnTest(unittest.TestCase):
+    # Things are compared by how they are shown, as 1 == True and that would hide a wrong kind.
+
+    def test_what_is_handed_in_stays(self):
+        for function, handed in CALLS:
+            with self.subTest(function=function.__name__, handed=handed):
+                given = copy.deepcopy(handed)
+                function(*given)
+                self.assertEqual(repr(given), repr(handed))
+
+    def test_told_again_as_it_was_when_the_asker_changed_it(self):
+        for function, handed in CALLS:
+            with self.subTest(function=function.__name__, handed=handed):
+                given = copy.deepcopy(handed)
+                first = function(*given)
+                shown = repr(first)
+                spoil(first)
+                self.assertEqual(repr(given), repr(handed))
+                self.assertEqual(repr(function(*given)), shown)
+
+    def test_told_stays_when_what_was_handed_in_is_changed(self):
+        for function, handed in CALLS:
+            with self.subTest(function=function.__name__, handed=handed):
+                given = copy.deepcopy(handed)
+                told = function(*given)
+                shown = repr(told)
+                spoil(given)
+                self.assertEqual(repr(told), shown)
+                self.assertEqual(repr(function(*copy.deepcopy(handed))), shown)
+
+    def test_lists_are_new(self):
+        for function, handed in CALLS:
+            with self.subTest(function=function.__name__, handed=handed):
+                given = copy.deepcopy(handed)
+                lists = lists_of(function(*given))
+                told = {id(xs) for xs in lists}
+                self.assertEqual(len(told), len(lists))
+                self.assertFalse(told & {id(xs) for xs in lists_of(given)})
+
+    def test_truths_are_truths_and_numbers_are_numbers(self):
+        for function, handed in CALLS:
+            with self.subTest(function=function.__name__, handed=handed):
+                told = function(*copy.deepcopy(handed))
+                self.assertEqual(isinstance(told, bool), function in TRUTHS)
+
+    def test_every_function_is_asked(self):
+        names = {function.__name__ for function, handed in CALLS}
+        self.assertEqual(names, {
+            "is_weighing", "shaped", "length", "weights_at", "part", "backward", "added", "put_to", "wound", "sorts",
+            "is_pairing", "paired", "forth", "back", "partners", "short", "behind", "is_turn",
+        })
+
+
+if __name__ == "__main__":
+    unittest.main()
