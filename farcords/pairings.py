@@ -18,6 +18,16 @@ def paired(one, other, long, turned):
     return (min(one, other), max(one, other), long, turned)
 
 
+def end_of(pairing):
+    """The place right behind the high stretch."""
+    return pairing[1] + pairing[2]
+
+
+def shift_of(pairing):
+    """How far the high stretch begins above the low one."""
+    return pairing[1] - pairing[0]
+
+
 def led(begin, goal, long, turned, place):
     """Where a place of the stretch at the begin is led in the one at the goal, else None."""
     if not begin <= place < begin + long:

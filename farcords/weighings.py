@@ -72,7 +72,8 @@ def part(weighing, begin, end):
     """The weighing of the places from the begin on and ahead of the end."""
     pieces = []
     for low, high, weights in laid_from(weighing, 0):
-        pieces.append((max(0, min(high, end) - max(low, begin)), weights))
+        if low < end and begin < high:
+            pieces.append((min(high, end) - max(low, begin), weights))
     return shaped(pieces)
 
 
@@ -121,12 +122,26 @@ def heaped(stretches):
 
 def added(one, other):
     """The sum of two weighings of one length, place by place."""
-    return put_to(one, 0, other)
+    stretches = laid_from(one, 0)
+    others = laid_from(other, 0)
+    pieces = []
+    begin = at = by = 0
+    while at < len(stretches):
+        end = min(stretches[at][1], others[by][1])
+        pieces.append((end - begin, sum_of_weights(stretches[at][2], others[by][2])))
+        begin = end
+        if stretches[at][1] == end:
+            at += 1
+        if others[by][1] == end:
+            by += 1
+    return shaped(pieces)
 
 
 def put_to(weighing, begin, other):
     """The weighing, with the other one's weights added from the begin on."""
-    return heaped(laid_from(weighing, 0) + laid_from(other, begin))
+    end = begin + length(other)
+    between = added(part(weighing, begin, end), other)
+    return shaped(part(weighing, 0, begin) + between + part(weighing, end, length(weighing)))
 
 
 def wound(weighing, t):

@@ -20,6 +20,10 @@ BARRED_NODES = (
 BARRED_WORDS = """type typing typing_extensions enum Enum IntEnum StrEnum Flag IntFlag Generic Protocol ABC ABCMeta
 namedtuple NamedTuple TypedDict TYPE_CHECKING abstractmethod""".split()
 
+OWN_METHODS = """append clear copy count endswith extend find get index insert isalnum isalpha isdigit islower isspace isupper
+items join keys ljust lower lstrip partition pop remove replace reverse rfind rjust rpartition rsplit rstrip setdefault
+split splitlines startswith strip update upper values zfill bit_length sort add discard""".split()
+
 
 def files():
     return sorted(path for path in PACKAGE.rglob("*") if path.is_file() and "__pycache__" not in path.parts)
@@ -116,6 +120,35 @@ class FormTest(unittest.TestCase):
                 self.assertFalse([name for name in bound if name.startswith("_") and not name.endswith("__")])
                 asked = {node.id for node in ast.walk(tree) if isinstance(node, ast.Name)}
                 self.assertFalse(asked - bound - set(OWN_NAMES))
+
+    def test_attributes(self):
+        given = set()
+        for path, tree in trees():
+            for node in ast.walk(tree):
+                if isinstance(node, ast.ClassDef):
+                    given.update(row.name for row in node.body if isinstance(row, ast.FunctionDef))
+                if isinstance(node, ast.Attribute) and isinstance(node.ctx, ast.Store):
+                    given.add(node.attr)
+        for path, tree in trees():
+            asked = {node.attr for node in ast.walk(tree) if isinstance(node, ast.Attribute)}
+            with self.subTest(path.name):
+                self.assertFalse(asked - given - set(OWN_METHODS))
+
+    def test_is_stands_beside_none_and_truths(self):
+        for path, tree in trees():
+            for node in ast.walk(tree):
+                if isinstance(node, ast.Compare) and any(isinstance(sign, (ast.Is, ast.IsNot)) for sign in node.ops):
+                    with self.subTest(path=path.name, line=node.lineno):
+                        self.assertIsInstance(node.comparators[0], ast.Constant)
+                        self.assertIn(repr(node.comparators[0].value), ("None", "True", "False"))
+
+    def test_lists_and_dicts_of_a_top_hold_none(self):
+        for path, tree in trees():
+            for row in tree.body:
+                if isinstance(row, ast.Assign):
+                    within = [node for node in ast.walk(row.value) if node is not row.value]
+                    with self.subTest(path=path.name, line=row.lineno):
+                        self.assertFalse([node for node in within if isinstance(node, (ast.List, ast.Dict))])
 
     def test_words(self):
         for path in files():

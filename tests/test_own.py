@@ -3,11 +3,17 @@
 import copy
 import unittest
 
-from farcords import pairings, weighings
+from farcords import counting, deeds, halls, pairings, rooms, weighings
 
 ONE = [(2, (1, -4)), (3, (0, 5)), (1, (1, -4))]
 OTHER = [(1, (7, 7)), (5, (0, 0))]
 SMALL = [(2, (3, 3))]
+HALL = (6, [(0, 0, 3, False), (1, 1, 3, True), (0, 2, 4, False), (0, 1, 4, False), (2, 3, 1, True)], ONE)
+TOP = (6, [(0, 0, 2, True), (0, 3, 3, True)], ONE)
+TURN = (6, [(0, 2, 4, False)], ONE)
+OPEN = (6, [(0, 1, 2, True)], ONE)
+ALONE = (6, [], ONE)
+NONE = (0, [], [])
 
 # What is no list is told of here too: what was handed in stays as it was, and truths are truths.
 CALLS = [
@@ -51,9 +57,38 @@ CALLS = [
     (pairings.behind, [(0, 3, 5, True), (2, 3, 5, False)]),
     (pairings.is_turn, [(0, 3, 5, False)]),
     (pairings.is_turn, [(0, 3, 5, True)]),
+    (halls.is_hall, [HALL]),
+    (halls.is_hall, [NONE]),
+    (halls.is_hall, [(6, [[0, 0, 2, True]], ONE)]),
+    (halls.is_hall, [[6, [], ONE]]),
+    (halls.is_hall, [None]),
+    (rooms.rooms, [HALL]),
+    (rooms.rooms, [ALONE]),
+    (rooms.rooms, [NONE]),
+    (rooms.sorts_walked, [TOP]),
+    (rooms.sorts_walked, [ALONE]),
+    (rooms.sorts_walked, [NONE]),
+    (deeds.deed_done, [HALL, ("gone", 0)]),
+    (deeds.deed_done, [HALL, ("folded", 1)]),
+    (deeds.deed_done, [HALL, ("joined", 2, 3)]),
+    (deeds.deed_done, [HALL, ("carried", 2, 4, "high")]),
+    (deeds.deed_done, [TOP, ("cut", 1, 4)]),
+    (deeds.deed_done, [TOP, ("cut", 1, 3)]),
+    (deeds.deed_done, [TURN, ("cut", 0, 3)]),
+    (deeds.deed_done, [OPEN, ("free", 4)]),
+    (deeds.deed_done, [ALONE, ("free", 0)]),
+    (counting.emptied, [HALL]),
+    (counting.emptied, [OPEN]),
+    (counting.emptied, [ALONE]),
+    (counting.emptied, [NONE]),
+    (counting.counted, [HALL]),
+    (counting.counted, [TOP]),
+    (counting.counted, [TURN]),
+    (counting.counted, [ALONE]),
+    (counting.counted, [NONE]),
 ]
 
-TRUTHS = (weighings.is_weighing, pairings.is_pairing, pairings.is_turn)
+TRUTHS = (weighings.is_weighing, pairings.is_pairing, pairings.is_turn, halls.is_hall)
 
 
 def spoil(thing):
@@ -126,6 +161,7 @@ class OwnTest(unittest.TestCase):
         self.assertEqual(names, {
             "is_weighing", "shaped", "length", "weights_at", "part", "backward", "added", "put_to", "wound", "sorts",
             "is_pairing", "paired", "forth", "back", "partners", "short", "behind", "is_turn",
+            "is_hall", "rooms", "sorts_walked", "deed_done", "emptied", "counted",
         })
 
 
