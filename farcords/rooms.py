@@ -7,14 +7,12 @@ from farcords.weighings import sorts, sum_of_weights
 MOST_PLACES = 2000
 
 
-def beside_each(n, pairings):
-    """For each place the places to which a pairing leads it."""
+def beside_each(n, links):
+    """For each place below n the places that it is linked with."""
     beside = [[] for place in range(n)]
-    for pairing in pairings:
-        for place in range(pairing[0], pairing[0] + pairing[2]):
-            goal = forth(pairing, place)
-            beside[place].append(goal)
-            beside[goal].append(place)
+    for one, other in links:
+        beside[one].append(other)
+        beside[other].append(one)
     return beside
 
 
@@ -33,18 +31,28 @@ def room_from(start, beside, is_seen):
     return sorted(room)
 
 
-def rooms(hall):
-    """The rooms as rising lists of places, by their least ones."""
-    n, pairings, weighing = hall
-    if n > MOST_PLACES:
-        raise TooMany("the hall has more places than are walked")
-    beside = beside_each(n, pairings)
+def linked(n, links):
+    """The places below n that links (one, other) hold together, as rising lists, by their least places."""
+    beside = beside_each(n, links)
     is_seen = [False] * n
     found = []
     for place in range(n):
         if not is_seen[place]:
             found.append(room_from(place, beside, is_seen))
     return found
+
+
+def links_of(pairing):
+    """The pairs of a pairing, one by one."""
+    return [(place, forth(pairing, place)) for place in range(pairing[0], pairing[0] + pairing[2])]
+
+
+def rooms(hall):
+    """The rooms as rising lists of places, by their least ones."""
+    n, pairings, weighing = hall
+    if n > MOST_PLACES:
+        raise TooMany("the hall has more places than are walked")
+    return linked(n, [link for pairing in pairings for link in links_of(pairing)])
 
 
 def weights_of(room, places):

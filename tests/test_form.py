@@ -121,6 +121,14 @@ class FormTest(unittest.TestCase):
                 asked = {node.id for node in ast.walk(tree) if isinstance(node, ast.Name)}
                 self.assertFalse(asked - bound - set(OWN_NAMES))
 
+    def test_no_local_is_called_like_a_name_of_the_top(self):
+        for path, tree in trees():
+            tops = set(top_names(tree)) | {alias.name for row in import_rows(tree) for alias in row.names}
+            for node in ast.walk(tree):
+                if isinstance(node, ast.FunctionDef):
+                    with self.subTest(path=path.name, name=node.name):
+                        self.assertFalse((bound_names(node) - {node.name}) & tops)
+
     def test_attributes(self):
         given = set()
         for path, tree in trees():

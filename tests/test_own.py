@@ -3,7 +3,8 @@
 import copy
 import unittest
 
-from farcords import counting, deeds, halls, pairings, rooms, weighings
+from farcords import cordrows, cords, counting, deeds, halls, pairings, rooms, sheets, ties, weighings
+from tests.sheets_made import BENT, KLEIN, PROJECTIVE, SPHERE, TORUS, TWO_PIECES
 
 ONE = [(2, (1, -4)), (3, (0, 5)), (1, (1, -4))]
 OTHER = [(1, (7, 7)), (5, (0, 0))]
@@ -86,9 +87,40 @@ CALLS = [
     (counting.counted, [TURN]),
     (counting.counted, [ALONE]),
     (counting.counted, [NONE]),
+    (sheets.is_sheet, [SPHERE]),
+    (sheets.is_sheet, [[[1, 2, 3], (1, 2, 3)]]),
+    (sheets.is_sheet, [None]),
+    (sheets.points, [SPHERE]),
+    (sheets.points, [TORUS]),
+    (sheets.sheet_pieces, [TWO_PIECES]),
+    (sheets.number, [PROJECTIVE]),
+    (sheets.faces, [TWO_PIECES]),
+    (sheets.faces, [KLEIN]),
+    (cordrows.is_row, [SPHERE, [1, 1, 2]]),
+    (cordrows.is_row, [SPHERE, [1, 1, [2]]]),
+    (cordrows.is_row, [SPHERE, SPHERE]),
+    (cordrows.arcs, [SPHERE, [1, 1, 2]]),
+    (cordrows.row_of, [SPHERE, [(0, 1, 1), (1, 0, 1)]]),
+    (cordrows.sum_of, [SPHERE, [1, 1, 2], [0, 0, 0]]),
+    (cordrows.ring, [SPHERE, 1]),
+    (cords.hall_of, [SPHERE, [1, 1, 2]]),
+    (cords.hall_of, [SPHERE, [0, 0, 0]]),
+    (cords.cords, [SPHERE, [1, 1, 2]]),
+    (cords.cords, [PROJECTIVE, [3, 0, 3]]),
+    (cords.cords, [TORUS, [0, 0, 0]]),
+    (cords.is_single, [TORUS, [1, 1, 2]]),
+    (cords.is_single, [TORUS, [0, 0, 0]]),
+    (cords.has_one_side, [PROJECTIVE, [1, 0, 1]]),
+    (cords.does_part, [SPHERE, [1, 1, 0]]),
+    (ties.turned_tie, [TORUS, 2]),
+    (ties.turned_tie, [BENT, 2]),
+    (ties.row_turned, [TORUS, [1, 1, 2], 2]),
 ]
 
-TRUTHS = (weighings.is_weighing, pairings.is_pairing, pairings.is_turn, halls.is_hall)
+TRUTHS = (
+    weighings.is_weighing, pairings.is_pairing, pairings.is_turn, halls.is_hall, sheets.is_sheet, cordrows.is_row,
+    cords.is_single, cords.has_one_side, cords.does_part,
+)
 
 
 def spoil(thing):
@@ -162,6 +194,8 @@ class OwnTest(unittest.TestCase):
             "is_weighing", "shaped", "length", "weights_at", "part", "backward", "added", "put_to", "wound", "sorts",
             "is_pairing", "paired", "forth", "back", "partners", "short", "behind", "is_turn",
             "is_hall", "rooms", "sorts_walked", "deed_done", "emptied", "counted",
+            "is_sheet", "points", "sheet_pieces", "number", "faces", "is_row", "arcs", "row_of", "sum_of", "ring",
+            "hall_of", "cords", "is_single", "has_one_side", "does_part", "turned_tie", "row_turned",
         })
 
 
