@@ -37,8 +37,20 @@ def arcs(sheet, row):
     return [corner_arcs(triangle, row) for triangle in sheet]
 
 
+def are_three(thing):
+    """Tell whether a thing is a tuple of three whole numbers from 0 on."""
+    return isinstance(thing, tuple) and len(thing) == 3 and all([is_whole_from(many, 0) for many in thing])
+
+
+def are_arcs(sheet, thing):
+    """Tell whether a thing is a list of such tuples, one for each triangle."""
+    return isinstance(thing, list) and len(thing) == len(sheet) and all([are_three(told) for told in thing])
+
+
 def row_of(sheet, corners):
     """The cord row that has such arcs at the corners."""
+    if not are_arcs(sheet, corners):
+        raise NoRow("these are no arcs")
     row = []
     for both in glued_sides(sheet):
         # The corner ahead of a side is the one where it begins.

@@ -1,6 +1,6 @@
 """Cords: the closed cords of a cord row, told as the rooms of a hall."""
 
-from farcords.cordrows import corner_arcs
+from farcords.cordrows import corner_arcs, is_row
 from farcords.counting import counted
 from farcords.errors import NoCord
 from farcords.pairings import paired
@@ -47,14 +47,19 @@ def hall_of(sheet, row):
     return (sum(row), pairings, weighing)
 
 
+def cords_of(told):
+    """The cords that the sorts of a row's hall tell of."""
+    return [(list(weights), copies) for weights, copies in told]
+
+
 def cords(sheet, row):
     """The sorted list of tuples (row of a cord, how many copies of it there are)."""
-    return [(list(weights), copies) for weights, copies in counted(hall_of(sheet, row))[1]]
+    return cords_of(counted(hall_of(sheet, row))[1])
 
 
 def is_single(sheet, row):
     """Tell whether the row is that of one cord."""
-    return counted(hall_of(sheet, row))[0] == 1
+    return is_row(sheet, row) and counted(hall_of(sheet, row))[0] == 1
 
 
 def demand_single(sheet, row):

@@ -94,12 +94,15 @@ def emptied(hall):
     return emptying.deeds
 
 
-def counted(hall):
-    """The number of rooms, and the sorted list of tuples (weights, how many rooms weigh so)."""
-    deeds = emptied(hall)
-    rest = hall
+def done(hall, deeds):
+    """The hall behind the deeds, one behind another, and of the rooms that they count the number and the sorts."""
     runs = []
     for deed in deeds:
-        rest, told = deed_done(rest, deed)
+        hall, told = deed_done(hall, deed)
         runs.extend([(many, weights) for weights, many in told])
-    return (length(runs), sorts(runs))
+    return (hall, length(runs), sorts(runs))
+
+
+def counted(hall):
+    """The number of rooms, and the sorted list of tuples (weights, how many rooms weigh so)."""
+    return done(hall, emptied(hall))[1:]

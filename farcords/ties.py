@@ -2,11 +2,12 @@
 
 from farcords.errors import NoTurn
 from farcords.sheets import glued_sides, many_ties
+from farcords.wholes import is_whole_from
 
 
 def sides_round(sheet, tie):
     """Both triangles beside a tie that can be turned, and the four sides round them."""
-    if not 1 <= tie <= many_ties(sheet):
+    if not is_whole_from(tie, 1) or tie > many_ties(sheet):
         raise NoTurn("there is no such tie")
     (one, at), (other, by) = glued_sides(sheet)[tie - 1]
     if one == other:

@@ -67,3 +67,40 @@ def points_walked(sheet):
             side, following = triangle[i], triangle[(i + 1) % 3]
             links.append(((abs(side), int(side > 0)), (abs(following), int(following < 0))))
     return sorted(sorted(point) for point in held_together(ends, links))
+
+
+def end_gap(end, row):
+    """The gap at an end of a tie."""
+    tie, is_last = end
+    return (tie, row[tie - 1] if is_last else 0)
+
+
+def middle_gap(triangle, row):
+    """The gap of side 0 that has all arcs at corner 0 between itself and that corner."""
+    one, other, many = corner_links([triangle], row, 1)[0]
+    return one[many]
+
+
+def gap_weights(sheet, row):
+    """By each gap that has such, how many points and middles count there, as the document tells it."""
+    weights = {}
+    for point in points_walked(sheet):
+        gap = end_gap(point[0], row)
+        weights[gap] = (weights.get(gap, (0, 0))[0] + 1, weights.get(gap, (0, 0))[1])
+    for triangle in sheet:
+        gap = middle_gap(triangle, row)
+        weights[gap] = (weights.get(gap, (0, 0))[0], weights.get(gap, (0, 0))[1] + 1)
+    return weights
+
+
+def left_walked(sheet, row):
+    """The sorted list of (points, middles, how many): of each piece the points and middles that lie in it are sought."""
+    kinds = []
+    ends = [{end_gap(end, row) for end in point} for point in points_walked(sheet)]
+    for piece in pieces_walked(sheet, row):
+        gaps = set(piece)
+        points = [point & gaps for point in ends]
+        assert all(found in (set(), point) for found, point in zip(points, ends))
+        kinds.append((sum(bool(found) for found in points),
+                      sum(middle_gap(triangle, row) in gaps for triangle in sheet)))
+    return sorted(kind + (kinds.count(kind),) for kind in set(kinds))

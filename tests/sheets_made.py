@@ -105,3 +105,13 @@ def times_row(row, times):
 
 def plus_row(one, other):
     return [a + b for a, b in zip(one, other)]
+
+
+def beside(sheet, tie):
+    """The numbers of the triangles that have the tie, one for each of its sides."""
+    return [at for at, triangle in enumerate(sheet) for side in triangle if abs(side) == tie]
+
+
+def turnable(sheet):
+    """The ties whose two sides are of two triangles."""
+    return [tie for tie in range(1, ties_of(sheet) + 1) if len(set(beside(sheet, tie))) == 2]

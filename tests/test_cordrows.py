@@ -143,6 +143,16 @@ class ArcsTest(RefusingTest):
                     self.refused(NoRow, row_of, sheet, corners[:at] + [(a + 1, b, c)] + corners[at + 1:])
 
 
+    def test_what_is_no_arcs(self):
+        good = [(0, 1, 1), (1, 0, 1)]
+        self.assertEqual(row_of(SPHERE, good), [1, 1, 2])
+        for thing in ANY_THINGS + bent(good):
+            self.refused(NoRow, row_of, SPHERE, thing)
+        self.refused(NoRow, row_of, SPHERE, [(-1, 1, 1), (1, -1, 1)])
+        self.refused(NoRow, row_of, SPHERE, good + good)
+        self.refused(NoRow, row_of, SPHERE, [(0, 1, 1, 0), (1, 0, 1, 0)])
+
+
 class SumTest(unittest.TestCase):
     def test_by_hand(self):
         self.assertEqual(sum_of(SPHERE, [1, 1, 2], [0, 4, 4]), [1, 5, 6])

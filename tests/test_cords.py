@@ -11,6 +11,7 @@ from farcords.errors import NoCord
 from farcords.halls import is_hall
 from farcords.rooms import sorts_walked
 from farcords.sheets import points, sheet_pieces
+from tests.bending import ANY_THINGS, bent
 from tests.bundles import chance_bundles, times_bundle, whole_row
 from tests.cords_walked import cords_walked, crossing_links, pieces_walked, things_of
 from tests.refusing import RefusingTest
@@ -174,6 +175,12 @@ class CordsTest(RefusingTest):
         self.refused(NoCord, does_part, SPHERE, [1, 1, 2])
         self.refused(NoCord, does_part, TORUS, [BIG * 2, BIG * 2, BIG * 4])
         self.refused(NoCord, has_one_side, PROJECTIVE, [3, 0, 3])
+
+    def test_what_is_no_row_is_no_single_cord(self):
+        for thing in ANY_THINGS + bent([1, 1, 2]) + [[1, 1, 1], [-1, -1, -2], [1, 1, 2, 0]]:
+            self.assertIs(is_single(TORUS, thing), False)
+            self.refused(NoCord, has_one_side, TORUS, thing)
+            self.refused(NoCord, does_part, TORUS, thing)
 
     def test_a_cord_with_one_side_and_its_double(self):
         self.assertEqual(cords(PROJECTIVE, [1, 0, 1]), [([1, 0, 1], 1)])

@@ -3,7 +3,9 @@
 import copy
 import unittest
 
-from farcords import cordrows, cords, counting, deeds, halls, pairings, rooms, sheets, ties, weighings
+from farcords import (
+    cordrows, cords, counting, deeds, halls, leavings, looker, pairings, rooms, sheets, texts, ties, weighings,
+)
 from tests.sheets_made import BENT, KLEIN, PROJECTIVE, SPHERE, TORUS, TWO_PIECES
 
 ONE = [(2, (1, -4)), (3, (0, 5)), (1, (1, -4))]
@@ -115,11 +117,29 @@ CALLS = [
     (ties.turned_tie, [TORUS, 2]),
     (ties.turned_tie, [BENT, 2]),
     (ties.row_turned, [TORUS, [1, 1, 2], 2]),
+    (leavings.gap_hall, [SPHERE, [1, 1, 2]]),
+    (leavings.gap_hall, [SPHERE, [0, 0, 0]]),
+    (leavings.left, [TORUS, [4, 6, 10]]),
+    (looker.room_paper, [HALL]),
+    (looker.room_paper, [ALONE]),
+    (looker.room_paper, [NONE]),
+    (looker.cord_paper, [SPHERE, [1, 1, 2]]),
+    (looker.cord_paper, [TORUS, [0, 0, 0]]),
+    (looker.holds, [looker.room_paper(HALL)]),
+    (looker.holds, [looker.cord_paper(SPHERE, [1, 1, 2])]),
+    (looker.holds, [("rooms", HALL, [("free", 0)], 6, [])]),
+    (looker.holds, [[HALL, [HALL]]]),
+    (texts.show_sheet, [SPHERE]),
+    (texts.show_row, [[1, 1, 2]]),
+    (texts.show_cords, [[([1, 1, 2], 3), ([0, 0, 0], 1)]]),
+    (texts.show_left, [[(1, 0, 2), (1, 2, 1)]]),
+    (texts.read_sheet, ["1 2 3 / -1 -2 -3"]),
+    (texts.read_row, [SPHERE, "1 1 2"]),
 ]
 
 TRUTHS = (
     weighings.is_weighing, pairings.is_pairing, pairings.is_turn, halls.is_hall, sheets.is_sheet, cordrows.is_row,
-    cords.is_single, cords.has_one_side, cords.does_part,
+    cords.is_single, cords.has_one_side, cords.does_part, looker.holds,
 )
 
 
@@ -196,6 +216,8 @@ class OwnTest(unittest.TestCase):
             "is_hall", "rooms", "sorts_walked", "deed_done", "emptied", "counted",
             "is_sheet", "points", "sheet_pieces", "number", "faces", "is_row", "arcs", "row_of", "sum_of", "ring",
             "hall_of", "cords", "is_single", "has_one_side", "does_part", "turned_tie", "row_turned",
+            "gap_hall", "left", "room_paper", "cord_paper", "holds",
+            "show_sheet", "show_row", "show_cords", "show_left", "read_sheet", "read_row",
         })
 
 

@@ -12,21 +12,11 @@ from tests.bundles import chance_bundles, merged, whole_row
 from tests.cords_walked import cords_walked
 from tests.refusing import RefusingTest
 from tests.sheets_made import (
-    BENT, FOLDED, KLEIN, NAMED, SPHERE, TORUS, TWO_PIECES, chance_row, chance_sheets, sheets_of_two, small_rows, ties_of,
-    upside_down,
+    BENT, FOLDED, KLEIN, NAMED, SPHERE, TORUS, TWO_PIECES, beside, chance_row, chance_sheets, sheets_of_two, small_rows,
+    ties_of, turnable, upside_down,
 )
 
 BIG = 10 ** 61
-
-
-def beside(sheet, tie):
-    """The numbers of the triangles that have the tie, one for each of its sides."""
-    return [at for at, triangle in enumerate(sheet) for side in triangle if abs(side) == tie]
-
-
-def turnable(sheet):
-    """The ties whose two sides are of two triangles."""
-    return [tie for tie in range(1, ties_of(sheet) + 1) if len(set(beside(sheet, tie))) == 2]
 
 
 def one_way(triangle, tie, sign):
@@ -121,6 +111,11 @@ class TurnedTieTest(RefusingTest):
             for tie in (0, -1, -2, -3, ties_of(sheet) + 1, -ties_of(sheet), 100, BIG, -BIG):
                 self.refused(NoTurn, turned_tie, sheet, tie)
                 self.refused(NoTurn, row_turned, sheet, [2] * ties_of(sheet), tie)
+
+    def test_what_is_no_number(self):
+        for thing in (True, None, "1", [1], (1,)):
+            self.refused(NoTurn, turned_tie, TORUS, thing)
+            self.refused(NoTurn, row_turned, TORUS, [1, 1, 2], thing)
 
 
 class RowTurnedTest(unittest.TestCase):
