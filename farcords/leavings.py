@@ -19,7 +19,7 @@ def gap_numbers(row):
 
 def gap_behind(side, many, gaps):
     """The gap of the side that has so many crossings between itself and the side's begin."""
-    # Of one gap more, the nearest ones, it is the farthest; the other way along the side it begins them.
+    # It is the farthest of the nearest many + 1; a side that goes against its tie has that one first.
     begin = nearest(side, many + 1, gaps)
     return begin + many if side > 0 else begin
 
